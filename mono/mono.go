@@ -2,10 +2,10 @@
 package mono
 
 import (
-	"cmp"
 	"slices"
 
 	"syzygist/api"
+	"syzygist/bare"
 	"syzygist/field"
 )
 
@@ -56,13 +56,7 @@ func Order(r api.Ring, a, b []int) (int, api.Errno) {
 	if err := checkAll(r, a, b); err != api.OK {
 		return 0, err
 	}
-	if c := cmp.Compare(degree(a), degree(b)); c != 0 {
-		return c, api.OK
-	}
-	if r.Order == api.OrderReverse {
-		return compareReverse(a, b), api.OK
-	}
-	return slices.Compare(a, b), api.OK
+	return bare.Compare(r, a, b), api.OK
 }
 
 // checkAll of some monomials: of the first one all errors ahead of those of the next.
@@ -86,7 +80,7 @@ func checkExponents(n int, e []int) api.Errno {
 	if slices.ContainsFunc(e, func(x int) bool { return x < 0 || x > api.MaxDegree }) {
 		return api.ErrRange
 	}
-	if degree(e) > api.MaxDegree {
+	if bare.Degree(e) > api.MaxDegree {
 		return api.ErrRange
 	}
 	return api.OK
@@ -98,7 +92,7 @@ func together(r api.Ring, a, b []int, do func(x, y int) int) ([]int, api.Errno) 
 		return nil, err
 	}
 	made := eachPair(a, b, do)
-	if degree(made) > api.MaxDegree {
+	if bare.Degree(made) > api.MaxDegree {
 		return nil, api.ErrMany
 	}
 	return made, api.OK
@@ -110,22 +104,4 @@ func eachPair(a, b []int, do func(x, y int) int) []int {
 		made[i] = do(a[i], b[i])
 	}
 	return made
-}
-
-func degree(e []int) int {
-	sum := 0
-	for _, x := range e {
-		sum += x
-	}
-	return sum
-}
-
-// compareReverse of two of the same degree: less of the last variable in which they differ is greater.
-func compareReverse(a, b []int) int {
-	for i := len(a) - 1; i >= 0; i-- {
-		if c := cmp.Compare(b[i], a[i]); c != 0 {
-			return c
-		}
-	}
-	return 0
 }
