@@ -206,8 +206,19 @@ func TestCheckErrors(t *testing.T) {
 		{"coefficient ahead of its exponents", api.Poly{term(0, 1)}, api.ErrRange},
 		{"exponents of the first one, coefficient of the second", api.Poly{term(1, 1), term(0, 0, 0)}, api.ErrForm},
 		{"coefficient of the first one, exponents of the second", api.Poly{term(7, 1, 0), term(1, 1)}, api.ErrRange},
-		{"rising, then a wrong coefficient", api.Poly{term(1, 0, 1), term(1, 1, 0), term(0, 0, 0)}, api.ErrRange},
-		{"rising, then wrong exponents", api.Poly{term(1, 0, 1), term(1, 1, 0), term(1, 0)}, api.ErrForm},
+		{"rising, then a coefficient of 0", api.Poly{term(1, 0, 1), term(1, 1, 0), term(0, 0, 0)}, api.ErrState},
+		{"rising, then a coefficient of P", api.Poly{term(1, 0, 1), term(1, 1, 0), term(7, 0, 0)}, api.ErrState},
+		{"rising, then too few exponents", api.Poly{term(1, 0, 1), term(1, 1, 0), term(1, 0)}, api.ErrState},
+		{"rising, then an exponent below 0", api.Poly{term(1, 0, 1), term(1, 1, 0), term(1, 0, -1)}, api.ErrState},
+		{"rising, then a degree over the limit", api.Poly{term(1, 0, 1), term(1, 1, 0), term(1, 201, 0)}, api.ErrState},
+		{"twice the same, then a wrong coefficient", api.Poly{term(1, 1, 0), term(2, 1, 0), term(0, 0, 0)}, api.ErrState},
+		{"rising, and right again at the end", api.Poly{term(1, 0, 1), term(1, 1, 0), term(1, 0, 0)}, api.ErrState},
+		{"a wrong coefficient, then rising", api.Poly{term(1, 0, 1), term(0, 0, 0), term(1, 1, 0)}, api.ErrRange},
+		{"wrong exponents, then rising", api.Poly{term(1, 0, 1), term(1, 0), term(1, 1, 0)}, api.ErrForm},
+		{"wrong coefficient of what rises", api.Poly{term(1, 0, 1), term(7, 1, 0), term(1, 1)}, api.ErrRange},
+		{"wrong exponents of what rises", api.Poly{term(1, 0, 1), term(1, 1, 0, 0), term(0, 0, 0)}, api.ErrForm},
+		{"too great a degree of what rises", api.Poly{term(1, 0, 1), term(1, 201, 0), term(1, 1)}, api.ErrRange},
+		{"how many ahead of what rises", slices.Repeat(api.Poly{term(1, 1, 0)}, 2001), api.ErrMany},
 		{"too many terms", make(api.Poly, 2001), api.ErrMany},
 	} {
 		t.Run(c.name, func(t *testing.T) { wantErrorOfOne(t, plane, c.f, c.want) })
@@ -249,6 +260,7 @@ func TestFirstOfTwo(t *testing.T) {
 	rising := api.Poly{term(1, 0, 1), term(1, 1, 0)}
 	wantError(t, plane, rising, make(api.Poly, 2001), api.ErrState)
 	wantError(t, plane, make(api.Poly, 2001), rising, api.ErrMany)
+	wantError(t, plane, append(rising, term(0, 0, 0)), make(api.Poly, 2001), api.ErrState)
 	wantError(t, plane, api.Poly{term(1, 1)}, api.Poly{term(0, 1, 0)}, api.ErrForm)
 	wantError(t, plane, api.Poly{term(0, 1, 0)}, api.Poly{term(1, 1)}, api.ErrRange)
 	wantError(t, plane, api.Poly{term(1, 200, 0)}, api.Poly{term(1, 201, 0)}, api.ErrRange)
@@ -306,6 +318,8 @@ func TestOfErrors(t *testing.T) {
 		{[]api.Term{term(7, 0)}, api.ErrRange},
 		{[]api.Term{term(1, 0), term(7, 0, 0)}, api.ErrForm},
 		{[]api.Term{term(7, 0, 0), term(1, 0)}, api.ErrRange},
+		{[]api.Term{term(1, 0, 0), term(1, 1, 0), term(7, 0, 0)}, api.ErrRange},
+		{[]api.Term{term(1, 0, 0), term(1, 1, 0), term(1, 0)}, api.ErrForm},
 		{make([]api.Term, 2001), api.ErrMany},
 	} {
 		got, err := poly.Of(plane, c.l)

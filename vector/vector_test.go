@@ -219,6 +219,24 @@ func TestWrongVector(t *testing.T) {
 	}
 }
 
+// C1, D1 to D4: of a polynomial that rises, that is told, and not what is wrong with a later term, by all calls.
+func TestRisingAheadOfLaterTerms(t *testing.T) {
+	for _, later := range []api.Term{term(0, 0, 0), term(7, 0, 0), term(1, 0), term(1, 0, -1), term(1, 201, 0)} {
+		f := append(wrongState(), later)
+		v := api.Vector{nil, f}
+		wantError(t, plane, v, api.ErrState)
+		if err := vector.Check(plane, 2, []api.Vector{v}); err != api.ErrState {
+			t.Errorf("Check, with %v behind: %d", later, err)
+		}
+		got, err := vector.Scale(plane, f, api.Vector{nil})
+		want(t, fmt.Sprint("Scale by it, with behind ", later), got, err, nil, api.ErrState)
+		got, err = vector.Combine(plane, 2, []api.Poly{nil}, []api.Vector{v})
+		want(t, fmt.Sprint("Combine of it, with behind ", later), got, err, nil, api.ErrState)
+		got, err = vector.Combine(plane, 1, []api.Poly{f}, []api.Vector{{nil}})
+		want(t, fmt.Sprint("Combine by it, with behind ", later), got, err, nil, api.ErrState)
+	}
+}
+
 // D1: what Add tells of two vectors, in its order.
 func TestAddErrors(t *testing.T) {
 	for _, c := range []struct {
