@@ -1,4 +1,4 @@
-// Package complete: from a list of vectors to the reduced basis of its module, and how each vector of that is made of the list.
+// Package complete: from a list of vectors to the reduced basis of its module, how each vector of that, and whatever else is in it, is made of the list, and how nothing is.
 package complete
 
 import (
@@ -17,14 +17,8 @@ type Made struct {
 // Reduced: the reduced basis of the module of a list.
 func Reduced(r api.Ring, rank int, l []api.Vector) []Made {
 	order := flat.NewOrder(r, rank, len(l))
-	rows := traced(order, l, 0, rank)
-	var all []flat.Vector
-	// What makes nothing is taken along: less it, the polynomials by which the others are made get as small as they can.
-	for _, w := range ways(r, rank, l) {
-		all = append(all, combined(order, w, rows))
-	}
 	var basis []Made
-	for _, v := range reduced(order, rank+len(l), all) {
+	for _, v := range reduced(order, rank+len(l), tracedBasis(order, r, rank, l)) {
 		if int(v[0].Place) < rank {
 			basis = append(basis, Made{Vector: v.Full(r.N, 0, rank), By: v.Full(r.N, rank, len(l))})
 		}
@@ -43,4 +37,18 @@ func Is(r api.Ring, rank int, l []api.Vector) bool {
 	}
 	slices.SortFunc(m.pairs, comparePairs)
 	return !slices.ContainsFunc(m.pairs, func(p pair) bool { return m.leaves(m.between(p)) })
+}
+
+// Nothing: by which polynomials nothing is made of a list. The reduced basis of all such is told, from its greatest one on.
+func Nothing(r api.Ring, rank int, l []api.Vector, told func(by api.Vector)) {
+	// To look at all places in one go is less work, whatever counts first in the answer.
+	mono := r
+	mono.Over = api.OverMono
+	_, nothing := stage(mono, l, 0, rank, units(mono, len(l)))
+	if r.Over == api.OverPlace {
+		nothing = byPlace(r, len(l), nothing)
+	}
+	for _, w := range slices.Backward(nothing) {
+		told(w.Full(r.N, 0, len(l)))
+	}
 }

@@ -122,3 +122,76 @@ func TestIs(t *testing.T) {
 		}
 	}
 }
+
+// G1: what is made of a list of whatever size is in its module, and how is told; by the module alone, whatever else it was asked for.
+func TestModule(t *testing.T) {
+	for _, r := range rings() {
+		for seed := range 10 {
+			rank, l := 1+seed%5, drawn(r, 1+seed%5, 2+seed%4, seed)
+			m := complete.NewModule(r, rank, l)
+			for i := range 3 {
+				v, _ := vector.Combine(r, rank, drawn(r, len(l), 1, 100*seed+i)[0], l)
+				wantMade(t, r, m, l, v)
+				wantNotMade(t, r, m, l, append(slices.Clone(v[:rank-1]), api.Poly{{C: 1, E: []int{0, 0}}}))
+			}
+		}
+	}
+}
+
+// wantMade: a vector is in a module, and what is told makes it.
+func wantMade(t *testing.T, r api.Ring, m *complete.Module, l []api.Vector, v api.Vector) {
+	t.Helper()
+	terms := make([][]api.Term, len(l))
+	in := m.Makes(v, func(number int, by api.Term) { terms[number] = append(terms[number], by) })
+	by := make([]api.Poly, len(l))
+	for i := range by {
+		by[i], _ = poly.Of(r, terms[i])
+	}
+	if made, err := vector.Combine(r, len(v), by, l); !in || err != api.OK || !same(made, v) {
+		t.Errorf("%v: %v of %v: %v, by %v: %v %d", r, v, l, in, by, made, err)
+	}
+}
+
+// wantNotMade: nothing is told of a vector that is not in a module, if it is not.
+func wantNotMade(t *testing.T, r api.Ring, m *complete.Module, l []api.Vector, v api.Vector) {
+	t.Helper()
+	var b []api.Vector
+	for _, x := range complete.Reduced(r, len(v), l) {
+		b = append(b, x.Vector)
+	}
+	_, left, err := divide.Divide(r, len(v), v, b)
+	told := 0
+	in := m.Makes(v, func(int, api.Term) { told++ })
+	if err != api.OK || in != same(left, make(api.Vector, len(v))) || !in && told > 0 {
+		t.Errorf("%v: %v of %v: %v, and %d terms were told", r, v, l, in, told)
+	}
+}
+
+// H1, H3: what makes nothing of a list of whatever size is told, all of it, as a reduced basis that falls.
+func TestNothing(t *testing.T) {
+	for _, r := range rings() {
+		for seed := range 12 {
+			rank, count := 1+seed%3, 2+seed%5
+			l := drawn(r, rank, count, seed)
+			last, _ := vector.Combine(r, rank, drawn(r, count, 1, 100+seed)[0], l)
+			relation := append(drawn(r, count, 1, 100+seed)[0], api.Poly{{C: r.P - 1, E: []int{0, 0}}})
+			l = append(l, last)
+			var all []api.Vector
+			complete.Nothing(r, rank, l, func(by api.Vector) { all = append(all, by) })
+			for i, s := range all {
+				if made, err := vector.Combine(r, rank, s, l); err != api.OK || !same(made, make(api.Vector, rank)) {
+					t.Errorf("%v: of %v: %v makes %v %d", r, l, s, made, err)
+				}
+				if normal, err := divide.Normal(r, count+1, s, slices.Delete(slices.Clone(all), i, i+1)); !normal || err != api.OK {
+					t.Errorf("%v: %v: number %d is not Normal: %d", r, all, i, err)
+				}
+			}
+			if !complete.Is(r, count+1, all) {
+				t.Errorf("%v: of %v: %v is no basis", r, l, all)
+			}
+			if _, left, err := divide.Divide(r, count+1, relation, all); err != api.OK || !same(left, make(api.Vector, count+1)) {
+				t.Errorf("%v: of %v: %v leaves %v %d", r, l, relation, left, err)
+			}
+		}
+	}
+}

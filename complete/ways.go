@@ -9,16 +9,16 @@ import (
 // way: polynomials by which something is made of a list; its terms stand at the places of the list.
 type way = flat.Vector
 
-// ways by which a basis of a list's module is made, and those that make a basis of all that make nothing.
+// ways by which a basis is made of all that given ways make of a list, and those that make a basis of all that make nothing.
 //
 // Where the place counts first, one place is looked at after the other: if all of them were looked at in one go, what stands at the later ones would grow without need.
-func ways(r api.Ring, rank int, l []api.Vector) []way {
+func ways(r api.Ring, rank int, l []api.Vector, given []way) []way {
 	width := rank
 	if r.Over == api.OverPlace {
 		width = 1
 	}
 	r.Over = api.OverMono
-	nothing := units(r, len(l))
+	nothing := given
 	var all []way
 	for from := 0; from < rank; from += width {
 		var some []way
@@ -26,6 +26,31 @@ func ways(r api.Ring, rank int, l []api.Vector) []way {
 		all = append(all, some...)
 	}
 	return append(all, nothing...)
+}
+
+// tracedBasis of a list's module. What makes nothing is taken along: less it, the polynomials by which something is made get as small as they can.
+func tracedBasis(order *flat.Order, r api.Ring, rank int, l []api.Vector) []flat.Vector {
+	rows := traced(order, l, 0, rank)
+	var all []flat.Vector
+	for _, w := range ways(r, rank, l, units(r, len(l))) {
+		all = append(all, combined(order, w, rows))
+	}
+	return all
+}
+
+// byPlace: the reduced basis, where the place counts first, of what some ways make together; the least one is the first one.
+func byPlace(r api.Ring, count int, given []way) []way {
+	order := flat.NewOrder(r, count, 0)
+	rows := units(r, count)
+	list := make([]api.Vector, count)
+	for i, u := range rows {
+		list[i] = u.Full(r.N, 0, count)
+	}
+	var all []flat.Vector
+	for _, w := range ways(r, count, list, given) {
+		all = append(all, combined(order, w, rows))
+	}
+	return reduced(order, count, all)
 }
 
 // units: the ways that make each vector of a list by itself.
