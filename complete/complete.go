@@ -8,7 +8,7 @@ import (
 	"syzygist/flat"
 )
 
-// Made: a vector of the module of a list, and the polynomials by which it is made.
+// Made: a vector of the module of a list, and polynomials by which it is made.
 type Made struct {
 	Vector api.Vector
 	By     []api.Poly
@@ -18,11 +18,16 @@ type Made struct {
 func Reduced(r api.Ring, rank int, l []api.Vector) []Made {
 	order := flat.NewOrder(r, rank, len(l))
 	var basis []Made
+	var some, nothing []way
 	for _, v := range reduced(order, rank+len(l), tracedBasis(order, r, rank, l)) {
 		if int(v[0].Place) < rank {
-			basis = append(basis, Made{Vector: v.Full(r.N, 0, rank), By: v.Full(r.N, rank, len(l))})
+			basis = append(basis, Made{Vector: v.Full(r.N, 0, rank)})
+			some = append(some, wayOf(v, rank))
+		} else {
+			nothing = append(nothing, wayOf(v, rank))
 		}
 	}
+	newShortener(r, rank, l, nothing).tell(basis, some)
 	slices.Reverse(basis)
 	return basis
 }

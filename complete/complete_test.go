@@ -147,8 +147,8 @@ func wantMade(t *testing.T, r api.Ring, m *complete.Module, l []api.Vector, v ap
 	for i := range by {
 		by[i], _ = poly.Of(r, terms[i])
 	}
-	if made, err := vector.Combine(r, len(v), by, l); !in || err != api.OK || !same(made, v) {
-		t.Errorf("%v: %v of %v: %v, by %v: %v %d", r, v, l, in, by, made, err)
+	if made, err := vector.Combine(r, len(v), by, l); !in || !m.Has(v) || err != api.OK || !same(made, v) {
+		t.Errorf("%v: %v of %v: %v, %v, by %v: %v %d", r, v, l, in, m.Has(v), by, made, err)
 	}
 }
 
@@ -162,7 +162,7 @@ func wantNotMade(t *testing.T, r api.Ring, m *complete.Module, l []api.Vector, v
 	_, left, err := divide.Divide(r, len(v), v, b)
 	told := 0
 	in := m.Makes(v, func(int, api.Term) { told++ })
-	if err != api.OK || in != same(left, make(api.Vector, len(v))) || !in && told > 0 {
+	if err != api.OK || in != same(left, make(api.Vector, len(v))) || in != m.Has(v) || !in && told > 0 {
 		t.Errorf("%v: %v of %v: %v, and %d terms were told", r, v, l, in, told)
 	}
 }

@@ -13,6 +13,9 @@ type member struct {
 	gone bool
 }
 
+// all of a member.
+func (x *member) all() flat.Vector { return append(flat.Vector{x.Lead}, x.Rest...) }
+
 // pair of members with Leads at one place; both go into least.
 type pair struct {
 	one, other *member
@@ -27,6 +30,7 @@ type making struct {
 	degrees []int
 	members [][]*member
 	pairs   []pair
+	work    *allowance
 }
 
 func newMaking(order *flat.Order, degrees []int) *making {
@@ -91,7 +95,7 @@ func (m *making) newPair(one, other *member) pair {
 
 // finish: as long as there are pairs, what the least of them leaves is a new member.
 func (m *making) finish() {
-	for len(m.pairs) > 0 {
+	for len(m.pairs) > 0 && !m.work.spent() {
 		if left := m.left(m.between(m.takePair())); len(left) > 0 {
 			m.add(left)
 		}
@@ -132,27 +136,34 @@ func (m *making) find(t flat.Term) *flat.Divisor {
 	return nil
 }
 
-// left of a sum, divided by the members.
+// left of a sum, divided by the members; nothing, if the work is spent.
 func (m *making) left(s *flat.Sum) flat.Vector {
 	var left flat.Vector
-	s.Divide(m.find, goOn, func(t flat.Term) bool {
+	s.Divide(m.find, m.goOn, func(t flat.Term) bool {
 		left = append(left, t)
 		return true
 	})
+	if m.work.spent() {
+		return nil
+	}
 	return left
 }
 
 // leaves a sum anything, divided by the members?
 func (m *making) leaves(s *flat.Sum) bool {
 	anything := false
-	s.Divide(m.find, goOn, func(flat.Term) bool {
+	s.Divide(m.find, m.goOn, func(flat.Term) bool {
 		anything = true
 		return false
 	})
 	return anything
 }
 
-func goOn(*flat.Divisor, flat.Term) bool { return true }
+// goOn, as long as there is work allowed.
+func (m *making) goOn(d *flat.Divisor, _ flat.Term) bool {
+	m.work.spend(1 + len(d.Rest))
+	return !m.work.spent()
+}
 
 // fill the terms of a vector up to one degree. Then a member is never taken away from what has a lesser degree, and what is made stays small: without that, one with a small Lead and great terms behind it would be taken away everywhere.
 func (m *making) fill(v flat.Vector) {
@@ -172,13 +183,24 @@ func (m *making) emptied() []flat.Vector {
 		if x.gone {
 			continue
 		}
-		v := append(flat.Vector{x.Lead}, x.Rest...)
+		v := x.all()
 		for i, t := range v {
 			v[i].E[len(t.E)-1] = 0
 		}
 		all = append(all, v)
 	}
 	return all
+}
+
+// leads of the members that are not gone.
+func (m *making) leads() flat.Vector {
+	var l flat.Vector
+	for _, x := range slices.Concat(m.members...) {
+		if !x.gone {
+			l = append(l, x.Lead)
+		}
+	}
+	return l
 }
 
 // reduced: of vectors that are a basis those that are needed, each without a term that the Lead of another goes into; the least one is the first one.

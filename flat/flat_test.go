@@ -98,6 +98,53 @@ func TestPlaces(t *testing.T) {
 	}
 }
 
+// An order with turned variables and places has the keys that each term has where it stands then.
+func TestTurned(t *testing.T) {
+	for _, r := range rings() {
+		plain := flat.NewOrder(r, 3, 0)
+		variables := []int{2, 0, 1}
+		if r.N < 3 {
+			variables = []int{1, 0}[2-r.N:]
+		}
+		places := []int{1, 2, 0}
+		o := flat.NewTurned(r, variables, places)
+		for i, place := range places {
+			for _, e := range upTo(r.N, 3) {
+				turned := make([]int, r.N)
+				for j, variable := range variables {
+					turned[variable] = e[j]
+				}
+				if got, wanted := o.Term(place, term(1, turned...)), plain.Term(i, term(1, e...)); got.Key != wanted.Key {
+					t.Errorf("%v: %v at %d has the key of %v, not that of %v", r, turned, place, got, wanted)
+				}
+			}
+		}
+	}
+}
+
+// A vector that stands in another order falls by the new one, and is not changed.
+func TestOwn(t *testing.T) {
+	for _, r := range rings() {
+		for _, other := range rings() {
+			if other.N != r.N {
+				continue
+			}
+			var v api.Vector
+			for i, e := range upTo(r.N, 3) {
+				v = append(v, one(i+1, e...))
+			}
+			o, f := flat.NewOrder(r, len(v), 0), flat.NewOrder(other, len(v), 0).Vector(0, v)
+			before := slices.Clone(f)
+			if got, wanted := o.Own(f), o.Vector(0, v); !slices.Equal(got, wanted) {
+				t.Errorf("%v: %v, must be %v", r, got, wanted)
+			}
+			if !slices.Equal(f, before) {
+				t.Errorf("%v: now it is %v, and was %v", r, f, before)
+			}
+		}
+	}
+}
+
 // What is made flat has falling keys, and comes back as it was; of some places only those.
 func TestFull(t *testing.T) {
 	v := api.Vector{{term(1, 2, 0), term(3, 0, 1)}, nil, {term(5, 1, 1), term(6, 0, 0)}}

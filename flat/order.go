@@ -1,6 +1,8 @@
 package flat
 
 import (
+	"slices"
+
 	"syzygist/api"
 	"syzygist/field"
 )
@@ -32,6 +34,18 @@ func NewOrder(r api.Ring, rank, more int) *Order {
 	}
 	for place := range more {
 		o.start = append(o.start, behindAll+start(api.OverMono, place))
+	}
+	return o
+}
+
+// NewTurned: an order of vectors of a ring whose variables, and whose places, count as if each stood where it stands in these lists.
+func NewTurned(r api.Ring, variables, places []int) *Order {
+	o := &Order{prime: uint32(r.P), start: make([]int64, len(places))}
+	for i, variable := range variables {
+		o.weight[variable] = weight(r.Order, i)
+	}
+	for i, place := range places {
+		o.start[place] = start(r.Over, i)
 	}
 	return o
 }
@@ -83,6 +97,16 @@ func (o *Order) Vector(from int, v api.Vector) Vector {
 	}
 	made.sort()
 	return made
+}
+
+// Own: a vector that stands in another order, in this one.
+func (o *Order) Own(v Vector) Vector {
+	own := slices.Clone(v)
+	for i, t := range own {
+		own[i].Key = o.KeyTimes(o.Unit(int(t.Place)), t.E)
+	}
+	own.sort()
+	return own
 }
 
 // Scale a vector by a term; where that stands does not count.
