@@ -95,6 +95,13 @@ func TestLongTurned(t *testing.T) {
 	}
 }
 
+// F2: of this list no order alone leaves polynomials that are short enough for each vector.
+func TestLongest(t *testing.T) {
+	t.Parallel()
+	r := over(api.Ring{P: 101, N: 3}, api.OrderReverse, api.OverMono)
+	wantBasis(t, r, 2, readList(r, "55x3, 0; 13x2y + 27y3 + 84xz2 + 81x2, 8x2y + 15xy2 + 4yz2 + 36; 82xy2 + 95yz2, 35x3 + 5xz2; 9xy2 + 73x2z + 77xyz + 2xz2 + 29y, 72x3 + 74x2y + 15x2z + 53y2z + 81xz2"))
+}
+
 // P3: what is free is the same each time, long or not.
 func TestLongAgain(t *testing.T) {
 	r := over(api.Ring{P: 101, N: 3}, api.OrderWords, api.OverPlace)

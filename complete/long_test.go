@@ -23,7 +23,7 @@ func long() []api.Vector {
 	}
 }
 
-// tooLong: of this list one vector of the basis, at least, is made by no polynomials that are short enough, whatever order is tried.
+// tooLong: of this list no short ways are found for some vector of the basis.
 func tooLong() []api.Vector {
 	return []api.Vector{
 		{

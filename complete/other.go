@@ -25,7 +25,7 @@ type family struct{ left int }
 func (o *other) compare(p *other, best int) int {
 	return cmp.Or(
 		compareBools(p.good, o.good),
-		compareBools(o.family.left > 2*best, p.family.left > 2*best),
+		compareBools(2*o.family.left > 3*best, 2*p.family.left > 3*best),
 		cmp.Compare(o.asked, p.asked),
 		cmp.Compare(o.late, p.late),
 		cmp.Compare(o.family.left, p.family.left))

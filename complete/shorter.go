@@ -24,13 +24,16 @@ type shortener struct {
 	others  []*other
 	best    int
 	work    *allowance
+	trimmer *trimmer
 }
 
-// long: what is made by a way of too many terms, and which of the other orders were tried for it.
+// long: what is made by a way of too many terms, which of the other orders were tried for it, and the best trimmed way so far.
 type long struct {
 	*Made
-	way   way
-	tried []bool
+	way     way
+	tried   []bool
+	trimmed way
+	much    int
 }
 
 func newShortener(r api.Ring, rank int, l []api.Vector, nothing []way) *shortener {
@@ -77,17 +80,23 @@ func samePoly(f, g api.Poly) bool {
 // search for shorter ways: each long one in turn tries one order. So those for which no order is good do not keep the others from theirs.
 func (s *shortener) search(open []*long) {
 	s.others = otherOrders(s.ring, len(s.list))
+	s.trimmer = newTrimmer(s)
 	for _, l := range open {
 		l.tried = make([]bool, len(s.others))
 	}
 	for len(open) > 0 && !s.work.spent() {
 		var still []*long
 		for _, l := range open {
-			if o := s.choose(l); o != nil && !s.try(l, o) {
+			if o := s.choose(l); o == nil {
+				s.giveUp(l)
+			} else if !s.try(l, o) {
 				still = append(still, l)
 			}
 		}
 		open = still
+	}
+	for _, l := range open {
+		s.giveUp(l)
 	}
 }
 
@@ -114,22 +123,61 @@ func (s *shortener) try(l *long, o *other) bool {
 	}
 	left, fits := s.left(l.way, o)
 	if o.late == 0 {
-		o.family.left = len(left)
-		s.best = min(s.best, len(left))
+		s.note(o.family, len(left), fits)
 	}
 	if !fits {
 		return false
 	}
-	by := s.polys(left)
 	// The shorter it is, the less work has the next order with it; and if none is good, the shortest one is told.
 	if len(left) < len(l.way) {
-		l.way, l.By = left, by
+		l.way, l.By = left, s.polys(left)
 	}
+	if !s.told(l, left) && !s.trim(l, left) {
+		return false
+	}
+	o.good = true
+	return true
+}
+
+// note how many terms are left by the first order of a family.
+func (s *shortener) note(f *family, left int, fits bool) {
+	f.left = left
+	s.best = min(s.best, left)
+	if !fits {
+		// There is more than was told; how much is not known.
+		f.left *= 2
+	}
+}
+
+// trim a way: is it short enough then?
+func (s *shortener) trim(l *long, w way) bool {
+	s.trimmer.gather(2 * s.trimmer.ready)
+	trimmed, much := s.trimmer.trim(w, trimWork)
+	if much == 0 {
+		return s.told(l, trimmed)
+	}
+	if l.trimmed == nil || much < l.much {
+		l.trimmed, l.much = trimmed, much
+	}
+	return false
+}
+
+// giveUp, but for one thing: the best one so far is trimmed by all that is known in the end.
+func (s *shortener) giveUp(l *long) {
+	if l.trimmed != nil {
+		s.trimmer.gather(s.trimmer.ready + 1)
+		trimmed, _ := s.trimmer.trim(l.trimmed, lastWork)
+		s.told(l, trimmed)
+	}
+}
+
+// told: if Combine makes a vector by a way, that is told of it.
+func (s *shortener) told(l *long, w way) bool {
+	by := s.polys(w)
 	if !s.makes(by, l.Vector) {
 		return false
 	}
 	l.By = by
-	o.good = true
 	return true
 }
 
