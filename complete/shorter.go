@@ -8,9 +8,10 @@ import (
 	"syzygist/vector"
 )
 
-// How much work may be done in search of shorter ways, for all ways of a list, and to make one order ready for it.
+// How much work may be done in search of shorter ways, for all ways of a list, how much of that for those that never come near to what is short enough, and how much to make one order ready for it.
 const (
 	searchWork = 1 << 27
+	farWork    = 1 << 25
 	orderWork  = 1 << 22
 )
 
@@ -53,7 +54,7 @@ func (s *shortener) tell(all []Made, ways []way) {
 	var open []*long
 	for i, w := range ways {
 		all[i].By = s.polys(w)
-		if !s.makes(all[i].By, all[i].Vector) {
+		if !s.makes(all[i].By, all[i].Vector) && s.mayBeMade(all[i].Vector) {
 			open = append(open, &long{Made: &all[i], way: w})
 		}
 	}
@@ -73,6 +74,11 @@ func (s *shortener) makes(by []api.Poly, v api.Vector) bool {
 	return err == api.OK && slices.EqualFunc(made, v, samePoly)
 }
 
+// mayBeMade: a vector that is too long itself is not made by any polynomials.
+func (s *shortener) mayBeMade(v api.Vector) bool {
+	return vector.Check(s.ring, s.rank, []api.Vector{v}) == api.OK
+}
+
 func samePoly(f, g api.Poly) bool {
 	return slices.EqualFunc(f, g, func(t, u api.Term) bool { return t.C == u.C && slices.Equal(t.E, u.E) })
 }
@@ -84,27 +90,33 @@ func (s *shortener) search(open []*long) {
 	for _, l := range open {
 		l.tried = make([]bool, len(s.others))
 	}
-	for len(open) > 0 && !s.work.spent() {
+	for going := true; going && !s.work.spent(); {
+		going = false
 		var still []*long
 		for _, l := range open {
-			if o := s.choose(l); o == nil {
-				s.giveUp(l)
-			} else if !s.try(l, o) {
+			o := s.choose(l)
+			going = going || o != nil
+			if o == nil || !s.try(l, o) {
 				still = append(still, l)
 			}
 		}
 		open = still
 	}
 	for _, l := range open {
-		s.giveUp(l)
+		s.trimLast(l)
 	}
 }
 
-// choose the order to be tried next; nil, if all were tried.
+// choose the order to be tried next; nil, if there is none.
 func (s *shortener) choose(l *long) *other {
+	// A way that never came near goes on with what is good for others alone.
+	all := l.trimmed != nil || searchWork-s.work.terms < farWork
 	best := -1
 	for i, o := range s.others {
-		if !l.tried[i] && !o.needless && (best < 0 || o.compare(s.others[best], s.best) < 0) {
+		if l.tried[i] || o.needless || !all && !o.good {
+			continue
+		}
+		if best < 0 || o.compare(s.others[best], s.best) < 0 {
 			best = i
 		}
 	}
@@ -156,14 +168,14 @@ func (s *shortener) trim(l *long, w way) bool {
 	if much == 0 {
 		return s.told(l, trimmed)
 	}
-	if l.trimmed == nil || much < l.much {
+	if much <= near && (l.trimmed == nil || much < l.much) {
 		l.trimmed, l.much = trimmed, much
 	}
 	return false
 }
 
-// giveUp, but for one thing: the best one so far is trimmed by all that is known in the end.
-func (s *shortener) giveUp(l *long) {
+// trimLast: what was the best one so far is trimmed by all that is known in the end.
+func (s *shortener) trimLast(l *long) {
 	if l.trimmed != nil {
 		s.trimmer.gather(s.trimmer.ready + 1)
 		trimmed, _ := s.trimmer.trim(l.trimmed, lastWork)

@@ -9,11 +9,12 @@ import (
 	"syzygist/flat"
 )
 
-// How much work may be done to trim one way, in the search and in its end; how many looks at a coefficient are as much work as a term that is taken away; by how many ways that make nothing, at most, and among how many monomials a way is trimmed.
+// How much work may be done to trim one way, in the search and in its end; how many looks at a coefficient are as much work as a term that is taken away; by how much at most a way is too long that is trimmed, by how many ways that make nothing, and among how many monomials.
 const (
 	trimWork    = 1 << 23
 	lastWork    = 1 << 25
 	looks       = 16
+	near        = 2 * api.MaxTerms
 	mostAddends = 400
 	mostRoom    = 1 << 21
 )
@@ -44,7 +45,7 @@ func newTrimmer(s *shortener) *trimmer {
 // trim a way, as long as something is gained and there is work left. By how much it is too long then is told, too.
 func (t *trimmer) trim(w way, work int) (way, int) {
 	b := newBox(t, t.order.Own(w), work)
-	for gained := b.room() <= mostRoom && tooMany(b.terms) <= 2*api.MaxTerms; gained; {
+	for gained := b.room() <= mostRoom && tooMany(b.terms) <= near; gained; {
 		gained = false
 		for i := range t.addends {
 			if tooMany(b.terms) > 0 && !b.work.spent() {
