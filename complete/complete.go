@@ -1,4 +1,4 @@
-// Package complete: from a list of vectors to the reduced basis of its module, how each vector of that, and whatever else is in it, is made of the list, and how nothing is.
+// Package complete: from a list of vectors to the reduced basis of its module, how each vector of that, and whatever else is in it, is made of the list, and how nothing is; and, where the vectors have degrees, to the steps of a resolution.
 package complete
 
 import (

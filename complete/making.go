@@ -2,10 +2,14 @@ package complete
 
 import (
 	"cmp"
+	"math"
 	"slices"
 
 	"syzygist/flat"
 )
+
+// anyDegree is more than that of any pair.
+const anyDegree = math.MaxInt
 
 // member of a basis. It is gone when the Lead of a later one goes into its own.
 type member struct {
@@ -93,17 +97,24 @@ func (m *making) newPair(one, other *member) pair {
 	}
 }
 
-// finish: as long as there are pairs, what the least of them leaves is a new member.
-func (m *making) finish() {
-	for len(m.pairs) > 0 && !m.work.spent() {
-		if left := m.left(m.between(m.takePair())); len(left) > 0 {
+// finish: as long as there are pairs of up to a degree, what the least of them leaves is a new member.
+func (m *making) finish(degree int) {
+	for !m.work.spent() {
+		p, found := m.takePair(degree)
+		if !found {
+			return
+		}
+		if left := m.left(m.between(p)); len(left) > 0 {
 			m.add(left)
 		}
 	}
 }
 
-// takePair: the least one away from the others. What is made of it has no lesser degree than what was made so far, so little is made that a later one makes needless.
-func (m *making) takePair() pair {
+// takePair: the least one away from the others; false, if there is none of up to a degree. What is made of it has no lesser degree than what was made so far, so little is made that a later one makes needless.
+func (m *making) takePair(degree int) (pair, bool) {
+	if len(m.pairs) == 0 {
+		return pair{}, false
+	}
 	least := 0
 	for i, p := range m.pairs {
 		if comparePairs(p, m.pairs[least]) < 0 {
@@ -111,8 +122,11 @@ func (m *making) takePair() pair {
 		}
 	}
 	taken := m.pairs[least]
+	if taken.degree > degree {
+		return pair{}, false
+	}
 	m.pairs = slices.Delete(m.pairs, least, least+1)
-	return taken
+	return taken, true
 }
 
 func comparePairs(p, q pair) int {

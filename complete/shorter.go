@@ -205,7 +205,7 @@ func (s *shortener) ready(o *other) {
 			o.basis.add(left)
 		}
 	}
-	o.basis.finish()
+	o.basis.finish(anyDegree)
 	s.work.spend(orderWork - o.basis.work.terms)
 	o.leads = s.order.Own(o.basis.leads())
 	alike := slices.IndexFunc(s.others, func(p *other) bool { return p != o && slices.Equal(p.leads, o.leads) })

@@ -76,7 +76,7 @@ func stage(r api.Ring, l []api.Vector, from, to int, given []way) (some, nothing
 			m.add(left)
 		}
 	}
-	m.finish()
+	m.finish(anyDegree)
 	for _, v := range reduced(order, width+len(l), m.emptied()) {
 		if int(v[0].Place) < width {
 			some = append(some, wayOf(v, width))

@@ -98,6 +98,47 @@ func TestPlaces(t *testing.T) {
 	}
 }
 
+// compareBools: false is less than true.
+func compareBools(a, b bool) int {
+	if a == b {
+		return 0
+	}
+	if b {
+		return -1
+	}
+	return 1
+}
+
+// compareTwo exponents, by the ring's order: those of the last two of three variables, or of the first two.
+func compareTwo(r api.Ring, e, f []int) int {
+	e, f = append(slices.Clone(e), 0, 0), append(slices.Clone(f), 0, 0)
+	if r.Order == api.OrderReverse {
+		return cmp.Or(cmp.Compare(f[2], e[2]), cmp.Compare(f[1], e[1]))
+	}
+	return cmp.Or(cmp.Compare(e[0], f[0]), cmp.Compare(e[1], f[1]))
+}
+
+// Where the places have degrees of their own, that of a term counts first, and what is behind is less all the same.
+func TestGraded(t *testing.T) {
+	degrees := []int{3, 0, 300, 2, 0}
+	for _, r := range rings() {
+		o := flat.NewGraded(r, degrees[:3], degrees[3:])
+		for place, d := range degrees {
+			for _, e := range upTo(r.N, 4) {
+				for other, c := range degrees {
+					for _, f := range upTo(r.N, 4) {
+						wanted := cmp.Or(compareBools(place < 3, other < 3), cmp.Compare(d+bare.Degree(e), c+bare.Degree(f)), compareTwo(r, e, f), cmp.Compare(other, place))
+						a, b := o.Term(place, term(1, e...)), o.Term(other, term(2, f...))
+						if got := cmp.Compare(a.Key, b.Key); got != wanted {
+							t.Fatalf("%v: %v at %d and %v at %d: %d, must be %d", r, e, place, f, other, got, wanted)
+						}
+					}
+				}
+			}
+		}
+	}
+}
+
 // An order with turned variables and places has the keys that each term has where it stands then.
 func TestTurned(t *testing.T) {
 	for _, r := range rings() {

@@ -38,6 +38,16 @@ func NewOrder(r api.Ring, rank, more int) *Order {
 	return o
 }
 
+// NewGraded: an order of vectors whose places have degrees of their own, and more places behind them. The degree of a term, that of its monomial and that of its place, counts first; then those two exponents count that the ring's order looks at, and then the place.
+func NewGraded(r api.Ring, degrees, more []int) *Order {
+	r.Over = api.OverMono
+	o := NewOrder(r, len(degrees), len(more))
+	for place, d := range slices.Concat(degrees, more) {
+		o.start[place] += int64(d) << degreeAt
+	}
+	return o
+}
+
 // NewTurned: an order of vectors of a ring whose variables, and whose places, count as if each stood where it stands in these lists.
 func NewTurned(r api.Ring, variables, places []int) *Order {
 	o := &Order{prime: uint32(r.P), start: make([]int64, len(places))}
